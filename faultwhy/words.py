@@ -1,4 +1,4 @@
-"""The words of a text: which are names, which are written numbers."""
+"""The rows and words of a text: which words are names, which are written numbers."""
 
 LETTERS = "abcdefghijklmnopqrstuvwxyz"
 FIGURES = "0123456789"
@@ -26,3 +26,14 @@ def is_number(word):
 def made_of(word, signs):
     # Python's own isdigit and isalpha also take signs from beyond ASCII.
     return all([sign in signs for sign in word])
+
+
+def rows_of(text):
+    # Pairs of a row's number and its words. Rows without words are passed
+    # over here alone: they count, so that a refusal tells the text's own number.
+    rows = []
+    for row, line in enumerate(text.split("\n")):
+        words = [word for word in line.split(" ") if word != ""]
+        if words:
+            rows.append((row, words))
+    return rows

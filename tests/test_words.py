@@ -1,7 +1,7 @@
 import string
 import unittest
 
-from faultwhy.words import is_name, is_number
+from faultwhy.words import is_name, is_number, rows_of
 
 SMALL = "abcdefghijklmnopqrstuvwxyz"
 FIGURES = "0123456789"
@@ -102,6 +102,25 @@ class Numbers(Words):
         for value in list(range(-120, 121)) + [10 ** 59, -(10 ** 59), 10 ** 60 - 1, 1 - 10 ** 60]:
             self.assert_each(is_number, [str(value)], True)
         self.assert_each(is_number, [str(10 ** 60), str(-(10 ** 60))], False)
+
+
+class Rows(unittest.TestCase):
+    def test_a_text_without_words_has_no_rows(self):
+        for text in ("", " ", "\n", "\n \n\n", "    "):
+            self.assertEqual(rows_of(text), [])
+
+    def test_rows_are_counted_from_nought_with_the_empty_ones(self):
+        self.assertEqual(rows_of("a"), [(0, ["a"])])
+        self.assertEqual(rows_of("a\nb c\n"), [(0, ["a"]), (1, ["b", "c"])])
+        self.assertEqual(rows_of("\n \n  a\n\nb"), [(2, ["a"]), (4, ["b"])])
+
+    def test_blanks(self):
+        self.assertEqual(rows_of("  a   b c    "), [(0, ["a", "b", "c"])])
+
+    def test_only_blanks_part_words_and_only_line_ends_part_rows(self):
+        for sign in [chr(code) for code in range(32)] + [chr(code) for code in range(33, 128)]:
+            if sign != "\n":
+                self.assertEqual(rows_of("a" + sign + "b"), [(0, ["a" + sign + "b"])])
 
 
 if __name__ == "__main__":
