@@ -58,7 +58,7 @@ def is_part_row(words):
     if len(words) < 3 or words[0] != "part" or not is_sort(words[2]):
         return False
     behind = 3 + pin_count(words[2])
-    if len(words) < behind or not all([is_name(word) for word in [words[1]] + words[3:behind]]):
+    if not all([is_name(word) for word in [words[1]] + words[3:behind]]):
         return False
     return is_number_alone(words[behind:]) if has_number(words[2]) else len(words) == behind
 

@@ -1,7 +1,10 @@
 """What several tests share: works made for them, and checks by the document's own words."""
 
 import copy
+import itertools
 
+from faultwhy.forcing import forced
+from faultwhy.pieces import pieces_of
 from faultwhy.works import read_work
 
 GREATEST = 10 ** 60 - 1
@@ -155,3 +158,95 @@ def random_readings(rng, work, turns, played, share, wrong):
                 readings.append((name, turn, value))
     rng.shuffle(readings)
     return readings
+
+
+def pieces_by_part(work, turns, modes):
+    return {part[0]: pieces_of(part, turns) for part in work[1] if part[0] in modes}
+
+
+def forces(piece, way, known):
+    # What a piece forces, as pairs of place and value, from the values known at places.
+    sort, number, places = piece
+    pairs = forced(sort, number, way, [known.get(place) for place in places])
+    return {(places[pin], value) for pin, value in pairs}
+
+
+def check_reckoning(case, work, turns, readings, modes, told):
+    """Holds what a reckoning tells against points 14 and 15, word by word."""
+    word, rows = told
+    case.assertIsInstance(told, tuple)
+    case.assertIsInstance(rows, list)
+    pieces = pieces_by_part(work, turns, modes)
+    known = {(wire, turn): value for wire, turn, value in readings}
+    for number, row in enumerate(rows):
+        check_row(case, pieces, modes, known, rows, number)
+        case.assertIsInstance(row, tuple)
+    places = [row[:2] for row in rows]
+    if word == "table":
+        check_table(case, pieces, modes, known, rows, places)
+    else:
+        case.assertEqual(word, "clash")
+        check_clash(case, rows, places)
+
+
+def check_row(case, pieces, modes, known, rows, number):
+    wire, turn, value, part, at, origin = rows[number]
+    case.assertIsInstance(origin, list)
+    if known.get((wire, turn)) == value or part == "":
+        case.assertEqual(known[(wire, turn)], value)
+        case.assertEqual((part, at, origin), ("", turn, []))
+        return
+    case.assertEqual(origin, sorted(set(origin)))
+    case.assertTrue(all(0 <= one < number for one in origin))
+    piece = pieces[part][at]
+    values = {rows[one][:2]: rows[one][2] for one in origin}
+    case.assertEqual(len(values), len(origin))
+    case.assertTrue(set(values) <= set(piece[2]))
+    case.assertIn(((wire, turn), value), forces(piece, modes[part], values))
+    for place in values:
+        fewer = {other: values[other] for other in values if other != place}
+        case.assertNotIn(((wire, turn), value), forces(piece, modes[part], fewer))
+
+
+def check_table(case, pieces, modes, known, rows, places):
+    case.assertEqual(len(set(places)), len(places))
+    values = {row[:2]: row[2] for row in rows}
+    for place in known:
+        case.assertEqual(values.get(place), known[place])
+    for name in pieces:
+        for piece in pieces[name]:
+            for place, value in forces(piece, modes[name], values):
+                case.assertEqual(values.get(place), value)
+
+
+def check_clash(case, rows, places):
+    case.assertNotEqual(rows[-1][3], "")
+    twins = [number for number, place in enumerate(places[:-1]) if place == places[-1]]
+    case.assertEqual(len(twins), 1)
+    case.assertNotEqual(rows[twins[0]][2], rows[-1][2])
+    case.assertEqual(len(set(places)), len(places) - 1)
+    used = {one for row in rows for one in row[5]} | {twins[0]}
+    case.assertEqual(used, set(range(len(rows) - 1)))
+
+
+def values_reckoned(work, turns, readings, modes):
+    """The reckoned values by places, or None where they clash: the plainest walk that point 14 lets one think of."""
+    values = {(wire, turn): value for wire, turn, value in readings}
+    pieces = pieces_by_part(work, turns, modes)
+    while True:
+        before = len(values)
+        for name in pieces:
+            for piece in pieces[name]:
+                for place, value in forces(piece, modes[name], values):
+                    if values.setdefault(place, value) != value:
+                        return None
+        if len(values) == before:
+            return values
+
+
+def clashes_with(work, turns, readings, names):
+    return values_reckoned(work, turns, readings, {name: None for name in names}) is None
+
+
+def subsets(names):
+    return [list(one) for size in range(len(names) + 1) for one in itertools.combinations(names, size)]

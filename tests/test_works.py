@@ -196,6 +196,8 @@ class Refusals(Refusing):
             "x", "wires a number", "Wire z number", "wire", "wire z", "part", "part p", "way", "way p", "wire z numbers",
             "wire z x", "wire z number truth", "wire z number Shut", "wire z number shut shut", "wire z number open",
             "wire 1z number", "wire Z number", "wire abcdefghijklm number", "wire z_ number", "wire z- number",
+            "parts p add a b c", "pin p add a b c", "p add a b c", "part: p copy a b", "x p const a 1", "ways p stuck 1",
+            "Way p stuck 1", "p stuck 1", "wire p stuck 1", "part p stuck 1", "way p add a b c", "way p copy a b",
             "shut", "number", "turns 3", "put a 0 1", "wire number z", "wire z shut number", "-", "0", "wire\tz number",
         ):
             self.assert_refused(errors.Unread, [row], 0)
