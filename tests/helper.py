@@ -117,7 +117,9 @@ def random_part(rng, name, wires, made, rings, sort):
         fit = [wire for wire, other in wires if other == kind and (rings or wire != out)]
         if not fit:
             return None
-        pins.append(rng.choice(fit))
+        # Mostly from parts made before, so that works are not all loose ends.
+        fed = [wire for wire in fit if wire in outs]
+        pins.append(rng.choice(fed if fed and rng.random() < 0.7 else fit))
     number = rng.choice([0, 1] if kinds[-1] == "truth" else [0, 1, -2, 5]) if sort in ("const", "hold") else None
     return (name, sort, pins + [out], number, kinds)
 
