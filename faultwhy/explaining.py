@@ -60,8 +60,12 @@ def names_of(work):
 
 
 def sure_parts(work, explanations):
-    return [name for name in names_of(work) if all([name in one for one in explanations])]
+    return [name for name in names_of(work) if count_with(explanations, name) == len(explanations)]
 
 
 def cleared_parts(work, explanations):
-    return [name for name in names_of(work) if not any([name in one for one in explanations])]
+    return [name for name in names_of(work) if count_with(explanations, name) == 0]
+
+
+def count_with(explanations, name):
+    return len([one for one in explanations if name in one])

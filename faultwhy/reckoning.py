@@ -20,8 +20,9 @@ class Reckoning:
 
     def take_forced(self, piece):
         # The places that got a value; at a clash the step is kept apart.
+        pairs = piece.forced_from(self.values_known)
         fresh = []
-        for place, value in piece.forced_from(self.values_known):
+        for place, value in pairs:
             if place not in self.values_known:
                 self.take(place, value, piece)
                 fresh.append(place)

@@ -18,15 +18,23 @@ def least_of(sets):
     return [one for one in sets if not any(set(other) < set(one) for other in sets)]
 
 
+def fewer(one):
+    return [one[:place] + one[place + 1:] for place in range(len(one))]
+
+
 def due_reasons(work, turns, readings):
-    # Point 18 by all sets walked; subsets come in the told order by themselves.
+    # Point 18 by all sets walked; subsets come in the told order by themselves. A set that
+    # holds a clashing one clashes, so for being least it is enough to leave out one part at a time.
     names = [part[0] for part in work[1]]
     clashing = {tuple(one): clashes_with(work, turns, readings, one) for one in subsets(names)}
-    clashes = [one for one in subsets(names) if clashing[tuple(one)]]
-    explanations = [
-        one for one in subsets(names) if not clashing[tuple(name for name in names if name not in one)]
-    ]
-    return (least_of(clashes), least_of(explanations))
+
+    def explains(one):
+        return not clashing[tuple(name for name in names if name not in one)]
+
+    return (
+        [one for one in subsets(names) if clashing[tuple(one)] and not any(clashing[tuple(less)] for less in fewer(one))],
+        [one for one in subsets(names) if explains(one) and not any(explains(less) for less in fewer(one))],
+    )
 
 
 class Reasons(unittest.TestCase):
@@ -128,6 +136,15 @@ class Reasons(unittest.TestCase):
         pairs = [[one, other] for place, one in enumerate(names) for other in names[place + 1:]]
         rests = [[name for name in names if name != one] for one in reversed(names)]
         self.assertEqual(all_reasons(work, 6, readings), (pairs, rests))
+
+    def test_twelve_parts_with_many_clashes(self):
+        # Parts are the edges of an octahedron between six wires of which one is read: each ring of edges clashes.
+        edges = [(one, other) for one in range(6) for other in range(one + 1, 6) if one // 2 != other // 2]
+        rows = [f"wire m{number} number" for number in range(6)] + [f"wire o{number} number" for number in range(12)]
+        rows += [f"part p{number} add m{one} m{other} o{number}" for number, (one, other) in enumerate(edges)]
+        readings = [("m0", 0, 0)] + [(f"o{number}", 0, 3 ** (number + 1)) for number in range(12)]
+        told = self.assert_reasons(work_of(*rows), 1, readings)
+        self.assertEqual((len(told[0]), len(told[1])), (134, 401))
 
     def test_twelve_parts_in_a_chain(self):
         rows = [f"wire w{number} truth" for number in range(13)]

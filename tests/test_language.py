@@ -224,9 +224,17 @@ def sign_faults(node):
         return ["L19 except"]
     if isinstance(node, ast.Raise) and not isinstance(node.exc, ast.Call):
         return ["L19 raise"]
-    if isinstance(node, (ast.ListComp, ast.Lambda)) and isinstance(getattr(node, "stands_in", None), ast.ListComp):
-        return ["nested comprehension"]
+    if isinstance(node, ast.ListComp) and is_within(node, ast.ListComp):
+        return ["L7 comprehension within another"]
     return []
+
+
+def is_within(node, kind):
+    while hasattr(node, "stands_in"):
+        node = node.stands_in
+        if isinstance(node, kind):
+            return True
+    return False
 
 
 # Those that are tied to narrow uses; the program does without them.
@@ -400,6 +408,7 @@ class Check(unittest.TestCase):
             "from faultwhy.errors import Ring\n\n\ndef f(a):\n    return [Ring]", "def f(a):\n    raise a",
             "from faultwhy.errors import forced\n\n\ndef f(forced):\n    return forced", "def f(a):\n    b, c = a",
             "def f(a):\n    return a in {1, 2, 3, 4} - {1, 2, 3}", "def f(a):\n    return int(a, base=3)",
+            "def f(a):\n    return [[c for c in b] for b in a]", "def f(a):\n    return [b for b in a if all([c for c in b])]",
             "def f(a):\n    return eval(a)", "def f(a):\n    return chr(a)", "@a\ndef f(b):\n    return b",
         ):
             with self.subTest(bad=bad):
